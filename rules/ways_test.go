@@ -15,6 +15,7 @@ import (
 // ways is DOC.md's section 'Ways', of the layers that are built.
 var ways = map[string]string{
 	"field": "range-integer",
+	"match": "variadic struct-compared",
 }
 
 func TestWays(t *testing.T) {
@@ -36,12 +37,24 @@ func TestWays(t *testing.T) {
 // TestWaysAreSeen shows that the look for ways takes none for another.
 func TestWaysAreSeen(t *testing.T) {
 	for text, want := range map[string]string{
-		"func f(l []int) {\n\tfor range l {\n\t}\n}":       "",
-		"func f(l []int) {\n\tfor range len(l) {\n\t}\n}":  "range-integer",
-		"func f(s string) {\n\tfor range s {\n\t}\n}":      "",
-		"func f(n uint8) {\n\tfor range n {\n\t}\n}":       "range-integer",
-		"func f(m map[int]int) {\n\tfor range m {\n\t}\n}": "",
-		"func f() {\n\tfor i := 0; i < 9; i++ {\n\t}\n}":   "",
+		"func f(l []int) {\n\tfor range l {\n\t}\n}":                                                        "",
+		"func f(l []int) {\n\tfor range len(l) {\n\t}\n}":                                                   "range-integer",
+		"func f(s string) {\n\tfor range s {\n\t}\n}":                                                       "",
+		"func f(n uint8) {\n\tfor range n {\n\t}\n}":                                                        "range-integer",
+		"func f(m map[int]int) {\n\tfor range m {\n\t}\n}":                                                  "",
+		"func f() {\n\tfor i := 0; i < 9; i++ {\n\t}\n}":                                                    "",
+		"func f(l ...int) {}":                                                                               "variadic",
+		"func f(l []int) {}":                                                                                "",
+		"func f(l []int) {\n\tf(append(l, l...))\n}":                                                        "",
+		"var a = [...]int{1}":                                                                               "",
+		"func f(a, b struct{ x int }) bool {\n\treturn a == b\n}":                                           "struct-compared",
+		"func f(a, b struct{ x int }) bool {\n\treturn a != b\n}":                                           "struct-compared",
+		"func f(a, b struct{ x int }) bool {\n\treturn a.x == b.x\n}":                                       "",
+		"func f(a, b *struct{ x int }) bool {\n\treturn a == b\n}":                                          "",
+		"type s struct{ x int }\n\nfunc f(a, b s) bool {\n\treturn a == b\n}":                               "struct-compared",
+		"import \"slices\"\n\nfunc f(l []struct{ x int }) bool {\n\treturn slices.Contains(l, l[0])\n}":     "struct-compared",
+		"import \"slices\"\n\nfunc f(l []int) bool {\n\treturn slices.Contains(l, l[0])\n}":                 "",
+		"import \"slices\"\n\nfunc f(l []struct{ x int }) []struct{ x int } {\n\treturn slices.Clone(l)\n}": "",
 	} {
 		p := newProject()
 		f, err := parser.ParseFile(p.set, "x.go", "package x\n\n"+text+"\n", 0)
@@ -72,7 +85,11 @@ type project struct {
 
 func newProject() *project {
 	set := token.NewFileSet()
-	info := &types.Info{Types: map[ast.Expr]types.TypeAndValue{}}
+	info := &types.Info{
+		Types:     map[ast.Expr]types.TypeAndValue{},
+		Uses:      map[*ast.Ident]types.Object{},
+		Instances: map[*ast.Ident]types.Instance{},
+	}
 	return &project{set, info, importer.ForCompiler(set, "source", nil), map[string]*types.Package{}}
 }
 
@@ -122,8 +139,8 @@ func (p *project) ways(files []*ast.File) []string {
 	var found []string
 	for _, f := range files {
 		ast.Inspect(f, func(n ast.Node) bool {
-			if x, ok := n.(*ast.RangeStmt); ok && isInteger(p.info.Types[x.X].Type) {
-				found = append(found, "range-integer")
+			if way := p.way(n); way != "" {
+				found = append(found, way)
 			}
 			return true
 		})
@@ -132,10 +149,61 @@ func (p *project) ways(files []*ast.File) []string {
 	return slices.Compact(found)
 }
 
+// way is the one that a node goes by; "": none that is looked for.
+func (p *project) way(n ast.Node) string {
+	switch x := n.(type) {
+	case *ast.RangeStmt:
+		if isInteger(p.info.Types[x.X].Type) {
+			return "range-integer"
+		}
+	case *ast.Ellipsis:
+		// In the length of an array it has no element.
+		if x.Elt != nil {
+			return "variadic"
+		}
+	case *ast.BinaryExpr:
+		if (x.Op == token.EQL || x.Op == token.NEQ) && isStruct(p.info.Types[x.X].Type) {
+			return "struct-compared"
+		}
+	case *ast.Ident:
+		if p.comparesStructs(x) {
+			return "struct-compared"
+		}
+	}
+	return ""
+}
+
+// comparesStructs is whether a name is that of a generic function which is made for structs that it compares.
+func (p *project) comparesStructs(x *ast.Ident) bool {
+	made, ok := p.info.Instances[x]
+	if !ok {
+		return false
+	}
+	f, ok := p.info.Uses[x].(*types.Func)
+	if !ok {
+		return false
+	}
+	parameters := f.Signature().TypeParams()
+	for i := range parameters.Len() {
+		if parameters.At(i).Constraint().Underlying().(*types.Interface).IsComparable() && isStruct(made.TypeArgs.At(i)) {
+			return true
+		}
+	}
+	return false
+}
+
 func isInteger(t types.Type) bool {
 	if t == nil {
 		return false
 	}
 	b, ok := t.Underlying().(*types.Basic)
 	return ok && b.Info()&types.IsInteger != 0
+}
+
+func isStruct(t types.Type) bool {
+	if t == nil {
+		return false
+	}
+	_, ok := t.Underlying().(*types.Struct)
+	return ok
 }

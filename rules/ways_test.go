@@ -16,6 +16,7 @@ import (
 var ways = map[string]string{
 	"field": "range-integer",
 	"match": "variadic struct-compared",
+	"act":   "variadic",
 }
 
 func TestWays(t *testing.T) {

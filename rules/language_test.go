@@ -124,6 +124,9 @@ func TestFaultsAreSeen(t *testing.T) {
 		"package nums\n\nfunc f() { println(1) }\n":                            "prints",
 		"package nums\n\nfunc  f() {}\n":                                       "layout",
 		"package nums\n\nfunc init() {}\n":                                     "func init",
+		"package nums\n\nfunc f(m map[int]bool) {}\n":                          "a map of bool",
+		"package nums\n\nfunc f(m map[int]string) {}\n":                        "a map of string",
+		"package nums\n\nfunc f(m map[string]struct{}) {}\n":                   "",
 		"package nums\n\nfunc f() {\n" + strings.Repeat("\tf()\n", 60) + "}\n": "62 lines",
 	} {
 		got := strings.Join(faults(parseText(t, "../nums/x.go", []byte(text))), "; ")
@@ -223,6 +226,12 @@ func functionFaults(s source) []string {
 		case *ast.CallExpr:
 			if isNamed(n.Fun, "print") || isNamed(n.Fun, "println") {
 				l = append(l, "prints")
+			}
+		case *ast.MapType: // rule 3, of all such maps
+			for _, name := range []string{"bool", "string"} {
+				if isNamed(n.Value, name) {
+					l = append(l, "a map of "+name)
+				}
 			}
 		}
 		return true

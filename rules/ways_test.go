@@ -17,6 +17,7 @@ var ways = map[string]string{
 	"field": "range-integer",
 	"match": "variadic struct-compared",
 	"act":   "variadic",
+	"group": "map range-map",
 }
 
 func TestWays(t *testing.T) {
@@ -38,12 +39,17 @@ func TestWays(t *testing.T) {
 // TestWaysAreSeen shows that the look for ways takes none for another.
 func TestWaysAreSeen(t *testing.T) {
 	for text, want := range map[string]string{
-		"func f(l []int) {\n\tfor range l {\n\t}\n}":                                                        "",
-		"func f(l []int) {\n\tfor range len(l) {\n\t}\n}":                                                   "range-integer",
-		"func f(s string) {\n\tfor range s {\n\t}\n}":                                                       "",
-		"func f(n uint8) {\n\tfor range n {\n\t}\n}":                                                        "range-integer",
-		"func f(m map[int]int) {\n\tfor range m {\n\t}\n}":                                                  "",
-		"func f() {\n\tfor i := 0; i < 9; i++ {\n\t}\n}":                                                    "",
+		"func f(l []int) {\n\tfor range l {\n\t}\n}":                                        "",
+		"func f(l []int) {\n\tfor range len(l) {\n\t}\n}":                                   "range-integer",
+		"func f(s string) {\n\tfor range s {\n\t}\n}":                                       "",
+		"func f(n uint8) {\n\tfor range n {\n\t}\n}":                                        "range-integer",
+		"func f(m map[int]int) {\n\tfor range m {\n\t}\n}":                                  "map range-map",
+		"func f(m map[int]int) int {\n\treturn m[1]\n}":                                     "map",
+		"type m map[int]int\n\nfunc f(x m) {\n\tfor range x {\n\t}\n}":                      "map range-map",
+		"import \"maps\"\n\nfunc f(m map[int]int) {\n\tfor range maps.Keys(m) {\n\t}\n}":    "map range-map",
+		"import \"maps\"\n\nfunc f(m map[int]int) map[int]int {\n\treturn maps.Clone(m)\n}": "map",
+		"func f(g func(func(int) bool)) {\n\tfor range g {\n\t}\n}":                         "",
+		"func f() {\n\tfor i := 0; i < 9; i++ {\n\t}\n}":                                    "",
 		"func f(l ...int) {}":                                                                               "variadic",
 		"func f(l []int) {}":                                                                                "",
 		"func f(l []int) {\n\tf(append(l, l...))\n}":                                                        "",
@@ -154,9 +160,14 @@ func (p *project) ways(files []*ast.File) []string {
 func (p *project) way(n ast.Node) string {
 	switch x := n.(type) {
 	case *ast.RangeStmt:
-		if isInteger(p.info.Types[x.X].Type) {
+		switch t := p.info.Types[x.X].Type; {
+		case isInteger(t):
 			return "range-integer"
+		case isMap(t):
+			return "range-map"
 		}
+	case *ast.MapType:
+		return "map"
 	case *ast.Ellipsis:
 		// In the length of an array it has no element.
 		if x.Elt != nil {
@@ -167,8 +178,11 @@ func (p *project) way(n ast.Node) string {
 			return "struct-compared"
 		}
 	case *ast.Ident:
-		if p.comparesStructs(x) {
+		switch {
+		case p.comparesStructs(x):
 			return "struct-compared"
+		case p.goesThroughMap(x):
+			return "range-map"
 		}
 	}
 	return ""
@@ -191,6 +205,20 @@ func (p *project) comparesStructs(x *ast.Ident) bool {
 		}
 	}
 	return false
+}
+
+// goesThroughMap is whether a name is that of a function of the library which goes through a map.
+func (p *project) goesThroughMap(x *ast.Ident) bool {
+	f, ok := p.info.Uses[x].(*types.Func)
+	return ok && slices.Contains([]string{"maps.All", "maps.Keys", "maps.Values"}, f.FullName())
+}
+
+func isMap(t types.Type) bool {
+	if t == nil {
+		return false
+	}
+	_, ok := t.Underlying().(*types.Map)
+	return ok
 }
 
 func isInteger(t types.Type) bool {

@@ -18,6 +18,7 @@ var ways = map[string]string{
 	"match": "variadic struct-compared",
 	"act":   "variadic",
 	"group": "map range-map",
+	"topo":  "variadic float",
 }
 
 func TestWays(t *testing.T) {
@@ -62,6 +63,12 @@ func TestWaysAreSeen(t *testing.T) {
 		"import \"slices\"\n\nfunc f(l []struct{ x int }) bool {\n\treturn slices.Contains(l, l[0])\n}":     "struct-compared",
 		"import \"slices\"\n\nfunc f(l []int) bool {\n\treturn slices.Contains(l, l[0])\n}":                 "",
 		"import \"slices\"\n\nfunc f(l []struct{ x int }) []struct{ x int } {\n\treturn slices.Clone(l)\n}": "",
+		"func f(x float64) float64 {\n\treturn x\n}":                                                        "float",
+		"func f(l []float32) bool {\n\treturn l[0] < 1\n}":                                                  "float",
+		"type c float64\n\nfunc f(x c) c {\n\treturn x\n}":                                                  "float",
+		"func f(n int) float64 {\n\treturn 0\n}":                                                            "",
+		"func f() int {\n\treturn 2.0\n}":                                                                   "",
+		"func f(x complex128) complex128 {\n\treturn x\n}":                                                  "",
 	} {
 		p := newProject()
 		f, err := parser.ParseFile(p.set, "x.go", "package x\n\n"+text+"\n", 0)
@@ -185,7 +192,16 @@ func (p *project) way(n ast.Node) string {
 			return "range-map"
 		}
 	}
+	if x, ok := n.(ast.Expr); ok && p.isFloatValue(x) {
+		return "float"
+	}
 	return ""
+}
+
+// isFloatValue is not about constants, which may be written as floats and used as integers.
+func (p *project) isFloatValue(x ast.Expr) bool {
+	v := p.info.Types[x]
+	return v.IsValue() && v.Value == nil && isFloat(v.Type)
 }
 
 // comparesStructs is whether a name is that of a generic function which is made for structs that it compares.
@@ -227,6 +243,11 @@ func isInteger(t types.Type) bool {
 	}
 	b, ok := t.Underlying().(*types.Basic)
 	return ok && b.Info()&types.IsInteger != 0
+}
+
+func isFloat(t types.Type) bool {
+	b, ok := t.Underlying().(*types.Basic)
+	return ok && b.Info()&types.IsFloat != 0
 }
 
 func isStruct(t types.Type) bool {

@@ -19,6 +19,7 @@ var ways = map[string]string{
 	"act":   "variadic",
 	"group": "map range-map",
 	"topo":  "variadic float",
+	"cost":  "float variadic closure",
 }
 
 func TestWays(t *testing.T) {
@@ -69,6 +70,9 @@ func TestWaysAreSeen(t *testing.T) {
 		"func f(n int) float64 {\n\treturn 0\n}":                                                            "",
 		"func f() int {\n\treturn 2.0\n}":                                                                   "",
 		"func f(x complex128) complex128 {\n\treturn x\n}":                                                  "",
+		"func f(n int) func() int {\n\treturn func() int { return n }\n}":                                   "closure",
+		"func f(g func() int) func() int {\n\treturn g\n}":                                                  "",
+		"func g() {}\n\nfunc f() func() {\n\treturn g\n}":                                                   "",
 	} {
 		p := newProject()
 		f, err := parser.ParseFile(p.set, "x.go", "package x\n\n"+text+"\n", 0)
@@ -175,6 +179,8 @@ func (p *project) way(n ast.Node) string {
 		}
 	case *ast.MapType:
 		return "map"
+	case *ast.FuncLit:
+		return "closure"
 	case *ast.Ellipsis:
 		// In the length of an array it has no element.
 		if x.Elt != nil {

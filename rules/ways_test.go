@@ -20,6 +20,7 @@ var ways = map[string]string{
 	"group": "map range-map",
 	"topo":  "variadic float",
 	"cost":  "float variadic closure",
+	"pred":  "array array-compared closure variadic label",
 }
 
 func TestWays(t *testing.T) {
@@ -55,7 +56,18 @@ func TestWaysAreSeen(t *testing.T) {
 		"func f(l ...int) {}":                                                                               "variadic",
 		"func f(l []int) {}":                                                                                "",
 		"func f(l []int) {\n\tf(append(l, l...))\n}":                                                        "",
-		"var a = [...]int{1}":                                                                               "",
+		"var a = [...]int{1}":                                                                               "array",
+		"func f(l []int) {\n\tfor range l[:1] {\n\t}\n}":                                                    "",
+		"func f(a [3]int) int {\n\treturn a[0]\n}":                                                          "array",
+		"type r [3]int\n\nfunc f(a, b r) bool {\n\treturn a[0] == b[0]\n}":                                  "array",
+		"func f(a, b [3]int) bool {\n\treturn a == b\n}":                                                    "array array-compared",
+		"type r [3]int\n\nfunc f(a, b r) bool {\n\treturn a != b\n}":                                        "array array-compared",
+		"func f(a, b *[3]int) bool {\n\treturn a == b\n}":                                                   "array",
+		"import \"slices\"\n\nfunc f(l [][3]int) bool {\n\treturn slices.Contains(l, l[0])\n}":              "array array-compared",
+		"func f() {\nl:\n\tfor {\n\t\tfor {\n\t\t\tbreak l\n\t\t}\n\t}\n}":                                  "label",
+		"func f() {\nl:\n\tfor {\n\t\tcontinue l\n\t}\n}":                                                   "",
+		"func f() {\n\tfor {\n\t\tbreak\n\t}\n}":                                                            "",
+		"func f() {\nl:\n\tgoto l\n}":                                                                       "",
 		"func f(a, b struct{ x int }) bool {\n\treturn a == b\n}":                                           "struct-compared",
 		"func f(a, b struct{ x int }) bool {\n\treturn a != b\n}":                                           "struct-compared",
 		"func f(a, b struct{ x int }) bool {\n\treturn a.x == b.x\n}":                                       "",
@@ -186,14 +198,29 @@ func (p *project) way(n ast.Node) string {
 		if x.Elt != nil {
 			return "variadic"
 		}
+	case *ast.ArrayType:
+		// A slice's type has no length.
+		if x.Len != nil {
+			return "array"
+		}
+	case *ast.BranchStmt:
+		if x.Tok == token.BREAK && x.Label != nil {
+			return "label"
+		}
 	case *ast.BinaryExpr:
-		if (x.Op == token.EQL || x.Op == token.NEQ) && isStruct(p.info.Types[x.X].Type) {
+		switch t := p.info.Types[x.X].Type; {
+		case x.Op != token.EQL && x.Op != token.NEQ:
+		case isStruct(t):
 			return "struct-compared"
+		case isArray(t):
+			return "array-compared"
 		}
 	case *ast.Ident:
 		switch {
-		case p.comparesStructs(x):
+		case p.compares(x, isStruct):
 			return "struct-compared"
+		case p.compares(x, isArray):
+			return "array-compared"
 		case p.goesThroughMap(x):
 			return "range-map"
 		}
@@ -210,8 +237,8 @@ func (p *project) isFloatValue(x ast.Expr) bool {
 	return v.IsValue() && v.Value == nil && isFloat(v.Type)
 }
 
-// comparesStructs is whether a name is that of a generic function which is made for structs that it compares.
-func (p *project) comparesStructs(x *ast.Ident) bool {
+// compares is whether a name is that of a generic function which is made for such things that it compares.
+func (p *project) compares(x *ast.Ident, such func(types.Type) bool) bool {
 	made, ok := p.info.Instances[x]
 	if !ok {
 		return false
@@ -222,7 +249,7 @@ func (p *project) comparesStructs(x *ast.Ident) bool {
 	}
 	parameters := f.Signature().TypeParams()
 	for i := range parameters.Len() {
-		if parameters.At(i).Constraint().Underlying().(*types.Interface).IsComparable() && isStruct(made.TypeArgs.At(i)) {
+		if parameters.At(i).Constraint().Underlying().(*types.Interface).IsComparable() && such(made.TypeArgs.At(i)) {
 			return true
 		}
 	}
@@ -261,5 +288,13 @@ func isStruct(t types.Type) bool {
 		return false
 	}
 	_, ok := t.Underlying().(*types.Struct)
+	return ok
+}
+
+func isArray(t types.Type) bool {
+	if t == nil {
+		return false
+	}
+	_, ok := t.Underlying().(*types.Array)
 	return ok
 }

@@ -62,6 +62,9 @@ func TestLimits(t *testing.T) { // DOC.md, Words
 		{"MaxFlows", api.MaxFlows, 256},
 		{"MaxGroups", api.MaxGroups, 64},
 		{"MaxMeters", api.MaxMeters, 16},
+		{"MaxPred", api.MaxPred, 60},
+		{"MaxParts", api.MaxParts, 12},
+		{"MaxCubes", api.MaxCubes, 128},
 	} {
 		if c.got != c.want {
 			t.Errorf("%s: %d", c.name, c.got)

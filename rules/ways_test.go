@@ -21,6 +21,7 @@ var ways = map[string]string{
 	"topo":  "variadic float",
 	"cost":  "float variadic closure",
 	"pred":  "array array-compared closure variadic label",
+	"regex": "map closure fallthrough",
 }
 
 func TestWays(t *testing.T) {
@@ -68,6 +69,8 @@ func TestWaysAreSeen(t *testing.T) {
 		"func f() {\nl:\n\tfor {\n\t\tcontinue l\n\t}\n}":                                                   "",
 		"func f() {\n\tfor {\n\t\tbreak\n\t}\n}":                                                            "",
 		"func f() {\nl:\n\tgoto l\n}":                                                                       "",
+		"func f(n int) {\n\tswitch n {\n\tcase 1:\n\t\tfallthrough\n\tcase 2:\n\t}\n}":                      "fallthrough",
+		"func f(n int) {\n\tswitch n {\n\tcase 1:\n\t\tbreak\n\tcase 2:\n\t}\n}":                            "",
 		"func f(a, b struct{ x int }) bool {\n\treturn a == b\n}":                                           "struct-compared",
 		"func f(a, b struct{ x int }) bool {\n\treturn a != b\n}":                                           "struct-compared",
 		"func f(a, b struct{ x int }) bool {\n\treturn a.x == b.x\n}":                                       "",
@@ -204,8 +207,11 @@ func (p *project) way(n ast.Node) string {
 			return "array"
 		}
 	case *ast.BranchStmt:
-		if x.Tok == token.BREAK && x.Label != nil {
+		switch {
+		case x.Tok == token.BREAK && x.Label != nil:
 			return "label"
+		case x.Tok == token.FALLTHROUGH:
+			return "fallthrough"
 		}
 	case *ast.BinaryExpr:
 		switch t := p.info.Types[x.X].Type; {

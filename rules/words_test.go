@@ -65,6 +65,10 @@ func TestLimits(t *testing.T) { // DOC.md, Words
 		{"MaxPred", api.MaxPred, 60},
 		{"MaxParts", api.MaxParts, 12},
 		{"MaxCubes", api.MaxCubes, 128},
+		{"MaxExpr", api.MaxExpr, 300},
+		{"MaxSwitch", api.MaxSwitch, 65535},
+		{"MaxText", api.MaxText, 4096},
+		{"MaxDeep", api.MaxDeep, 24},
 	} {
 		if c.got != c.want {
 			t.Errorf("%s: %d", c.name, c.got)
